@@ -36,9 +36,12 @@ func Valid(tag int) bool {
 // goesOn tells of a first byte whether there are others of its tag behind it.
 func goesOn(first int) bool { return first&lowFive == lowFive }
 
-// made tells whether a tag is made of others. Of what is looked through nothing is asked: this goes by the first byte of any number.
+// made tells whether a number is a tag that is made of others: one that is no tag never is, and its Text counts.
 func made(tag int) bool {
-	first := max(tag, 0)
+	if !Valid(tag) {
+		return false
+	}
+	first := tag
 	for first > 255 {
 		first >>= 8
 	}
@@ -78,7 +81,7 @@ func measure(l []api.Item) (size int, deep int, ok bool) {
 // fits tells whether an item has a tag and, beside it, only what such a tag may have.
 func fits(it api.Item) bool {
 	if made(it.Tag) {
-		return Valid(it.Tag) && it.Text == ""
+		return it.Text == ""
 	}
 	return Valid(it.Tag) && len(it.List) == 0
 }

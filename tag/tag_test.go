@@ -391,6 +391,46 @@ func TestFind(t *testing.T) {
 	}
 }
 
+// noTags are numbers that are no tags, though the bit 32 is 1 in the first byte of each that has one.
+func noTags() []int {
+	return []int{
+		63, 127, 191, 255, // the tag goes on, and does not
+		0x2041, 0xaeb6, 0xe07f, 0x200000, 0x218141, 0xf08101, // the tag does not go on, and does
+		0x3f1e, 0x3f80, 0xff00, 0x3f8080, 0x3f8000, 0xff411f, 0xff7f7f, 0xfff481,
+		0x20000000, 0x3f818101, 0xff81810101, 1<<62 | 1<<61, -1, -32, math.MinInt64 | 32,
+	}
+}
+
+func TestFindOfWhatIsNoTag(t *testing.T) {
+	for _, n := range noTags() {
+		if tag.Valid(n) {
+			t.Fatalf("%#x is a tag", n)
+		}
+		hidden := api.Item{Tag: n, Text: "its text", List: items(text(79, "hidden"), list(97, text(80, "hidden")))}
+		for _, c := range []struct {
+			l    []api.Item
+			tag  int
+			want string
+			ok   bool
+		}{
+			{items(text(n, "")), n, "", true},
+			{items(text(n, "a")), n, "a", true},
+			{items(text(n, "a"), text(n, "b")), n, "a", true},
+			{items(list(97, text(n, "inner")), text(n, "outer")), n, "inner", true},
+			{items(hidden), n, "its text", true},
+			{items(hidden), 79, "", false},
+			{items(hidden), 80, "", false},
+			{items(hidden, text(79, "seen")), 79, "seen", true},
+			{items(list(97, hidden), text(80, "seen")), 80, "seen", true},
+			{items(text(79, "a")), n, "", false},
+		} {
+			if s, ok := tag.Find(c.l, c.tag); s != c.want || ok != c.ok {
+				t.Errorf("Find of %#x among %v: %q %v, and must be %q %v", c.tag, c.l, s, ok, c.want, c.ok)
+			}
+		}
+	}
+}
+
 // B4
 
 // row is so many fields.
@@ -504,6 +544,22 @@ func TestFill(t *testing.T) {
 	}
 	if s, e := tag.Fill(row(100), items(text(1, "a"))); s != strings.Repeat("\x00a", 100) || e != api.OK {
 		t.Errorf("Fill of 100 fields: %x %d", s, e)
+	}
+}
+
+func TestFillLooksThroughTagsAlone(t *testing.T) {
+	l := []api.Field{{Tag: 1, Len: 1}}
+	for _, n := range noTags() {
+		deep := list(n, list(n, text(1, "a")))
+		if s, e := tag.Fill(l, items(deep, text(1, "b"))); s != "b" || e != api.OK {
+			t.Errorf("Fill behind a list of %#x: %q %d, and must be \"b\"", n, s, e)
+		}
+		if s, e := tag.Fill(l, items(deep)); s != "\x00" || e != api.OK {
+			t.Errorf("Fill from a list of %#x: %q %d, and must be 00", n, s, e)
+		}
+		if s, e := tag.Fill(l, items(list(97, deep, text(1, "c")), text(1, "b"))); s != "c" || e != api.OK {
+			t.Errorf("Fill behind an inner list of %#x: %q %d, and must be \"c\"", n, s, e)
+		}
 	}
 }
 
