@@ -109,7 +109,7 @@ func readOrders(s string) ([]api.Order, bool) {
 // Do does orders.
 func (c *Card) Do(orders string) api.Errno {
 	switch {
-	case c.store.off:
+	case c.off():
 		return api.ErrPower
 	case len(orders) < numberBytes+sealBytes || len(orders) > maxText:
 		return api.ErrForm

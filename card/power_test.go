@@ -1,6 +1,7 @@
 package card_test
 
 import (
+	"slices"
 	"testing"
 
 	"pursehouse/api"
@@ -587,5 +588,19 @@ func TestWhateverLiesThere(t *testing.T) {
 		c.End(api.Approve, "")
 		c.Do(d.text(30))
 		c.Tell()
+	}
+}
+
+// What Open did not give is as a card whose power went.
+func TestWhatOpenDidNotGive(t *testing.T) {
+	for _, c := range []*card.Card{nil, {}} {
+		_, e1 := c.Start()
+		_, e2 := c.Pin("1234")
+		_, e3 := c.Ask(api.Approve, deal(), extra)
+		_, e4 := c.End(api.Approve, "")
+		e5 := c.Do("")
+		if l := []api.Errno{e1, e2, e3, e4, e5}; slices.ContainsFunc(l, func(e api.Errno) bool { return e != api.ErrPower }) || c.Tell() != (api.Told{}) {
+			t.Errorf("no card: %v %+v", l, c.Tell())
+		}
 	}
 }
