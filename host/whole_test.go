@@ -8,8 +8,10 @@ import (
 	"pursehouse/book"
 	"pursehouse/card"
 	"pursehouse/cert"
+	clearing "pursehouse/clear"
 	"pursehouse/line"
 	"pursehouse/plain"
+	"pursehouse/settle"
 	"pursehouse/talk"
 	"pursehouse/till"
 	"pursehouse/wire"
@@ -71,14 +73,17 @@ func newChip(t *testing.T, id string, master string) *chip {
 	return &chip{plan: p, file: f, memory: plain.NewMemory(32, -1)}
 }
 
+// on gives a card power for so many writes, and tells whether it was enough to open it.
+func (c *chip) on(power int) bool {
+	c.memory = c.memory.After(power)
+	var e api.Errno
+	c.card, e = card.Open(c.plan, c.memory)
+	return e == api.OK
+}
+
 // wake gives a card power, till it goes again.
 func (c *chip) wake(d *draw) {
-	for {
-		c.memory = c.memory.After(d.one(-1, d.below(30)))
-		var e api.Errno
-		if c.card, e = card.Open(c.plan, c.memory); e == api.OK {
-			return
-		}
+	for !c.on(d.one(-1, d.below(30))) {
 	}
 }
 
@@ -90,13 +95,16 @@ type merchant struct {
 	payers map[int]string // by traces
 }
 
+// on gives a shop power for so many writes, and tells whether it was enough to open its book.
+func (m *merchant) on(power int) bool {
+	m.memory = m.memory.After(power)
+	var e api.Errno
+	m.book, e = book.Open(m.memory)
+	return e == api.OK
+}
+
 func (m *merchant) wake(d *draw) {
-	for {
-		m.memory = m.memory.After(d.one(-1, d.below(20)))
-		var e api.Errno
-		if m.book, e = book.Open(m.memory); e == api.OK {
-			return
-		}
+	for !m.on(d.one(-1, d.below(20))) {
 	}
 }
 
@@ -334,6 +342,63 @@ func (c *city) holds() {
 	}
 }
 
+// ledger lets the banks clear what the papers say, and settle: those of the cards pay what the accounts have paid, those of the shops get what these are due.
+func (c *city) ledger() {
+	c.t.Helper()
+	x, _ := clearing.New(api.Days{Dispute: 1, Answer: 1, Insist: 1})
+	bank := map[string]int{id: 1, other: 2}
+	for _, m := range c.shops {
+		_, notes, _ := m.notes(c.t)
+		for _, n := range notes {
+			if n.Kind == api.NoteReverse {
+				continue
+			}
+			if e := x.Post(api.Posted{From: bank[m.payers[n.Deal.Trace]], To: m.shop, Shop: m.shop, Trace: n.Deal.Trace, Amount: n.Deal.Amount}); e != api.OK {
+				c.t.Fatalf("Post of %+v: %d", n, e)
+			}
+		}
+	}
+	positions, e := settle.Net(x.Cut())
+	if e != api.OK {
+		c.t.Fatalf("Net: %d", e)
+	}
+	payments, e := settle.Plan(positions)
+	if e != api.OK {
+		c.t.Fatalf("Plan of %v: %d", positions, e)
+	}
+	got := map[int]int{}
+	for _, p := range payments {
+		got[p.From] -= p.Amount
+		got[p.To] += p.Amount
+	}
+	for _, m := range c.shops {
+		if due := c.h.Due(m.shop); got[m.shop] != due {
+			c.t.Fatalf("the bank of the shop %d got %d, due is %d", m.shop, got[m.shop], due)
+		}
+	}
+	for _, k := range c.chips {
+		if paid := joined - c.look(k.plan.Id).Balance; got[bank[k.plan.Id]] != -paid {
+			c.t.Fatalf("the bank of %s got %d, paid is %d", k.plan.Id, got[bank[k.plan.Id]], paid)
+		}
+	}
+}
+
+// end settles all that the books have begun, and sees to it that it comes out right, whatever comes late.
+func (c *city) end() {
+	c.t.Helper()
+	for _, m := range c.shops {
+		for len(m.book.Waiting()) > 0 {
+			m.wake(c.draw)
+			c.settle(m, true)
+		}
+		m.wake(c.draw)
+	}
+	c.holds()
+	c.arrive(true)
+	c.holds()
+	c.ledger()
+}
+
 // day lets something happen.
 func (c *city) day() {
 	m, k := c.shops[c.below(2)], c.chips[c.below(2)]
@@ -365,16 +430,7 @@ func TestTheWhole(t *testing.T) {
 		for range 60 {
 			c.day()
 		}
-		for _, m := range c.shops {
-			for len(m.book.Waiting()) > 0 {
-				m.wake(c.draw)
-				c.settle(m, true)
-			}
-			m.wake(c.draw)
-		}
-		c.holds()
-		c.arrive(true)
-		c.holds()
+		c.end()
 		for _, k := range c.chips {
 			if c.look(k.plan.Id).Version > 1 {
 				counts["rolled"]++
@@ -385,6 +441,44 @@ func TestTheWhole(t *testing.T) {
 		}
 	}
 	for what, least := range map[string]int{"with the host": 50, "without": 50, "power": 50, "rolled": 5} {
+		if counts[what] < least {
+			t.Errorf("%s: %d", what, counts[what])
+		}
+	}
+}
+
+// The power of the card goes at each write of a few payments, and so does the shop's, while a roll of keys is under way.
+func TestTheWholeAtAnyWrite(t *testing.T) {
+	counts := map[string]int{}
+	const writes = 20
+	for chip := range writes {
+		for shop := range writes {
+			c := newCity(t, chip*writes+shop)
+			m, k := c.shops[0], c.chips[0]
+			c.err("Roll", c.h.Roll(k.plan.Id, 2), api.OK)
+			for i := range 4 {
+				power := []int{chip, -1}[i%2]
+				if k.on(power) && m.on(shop) {
+					c.pay(m, k)
+				}
+				if k.memory.Off() {
+					counts["card"]++
+				}
+				if m.memory.Off() {
+					counts["book"]++
+				}
+				m.wake(c.draw)
+			}
+			c.end()
+			for what, n := range c.counts {
+				counts[what] += n
+			}
+			if c.look(k.plan.Id).Version == 2 {
+				counts["rolled"]++
+			}
+		}
+	}
+	for what, least := range map[string]int{"with the host": 50, "without": 50, "card": 50, "book": 50, "rolled": 50} {
 		if counts[what] < least {
 			t.Errorf("%s: %d", what, counts[what])
 		}
