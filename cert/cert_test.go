@@ -553,23 +553,51 @@ func TestRecoverOfBentBytes(t *testing.T) {
 	}
 }
 
+// How much stands beside it is bounded in Certify alone.
+func TestRecoverWithMuchBeside(t *testing.T) {
+	s := first(t)
+	m := modulus(t, s)
+	for _, size := range []int{65535, 65536, 65537, 131072, 1000000} {
+		beside := strings.Repeat("x", size)
+		for kind := 1; kind <= 4; kind++ {
+			for _, length := range []int{0, 4, 16, 17, 1000} {
+				body := strings.Repeat("b", length)
+				whole, rest := plain(40, byte(kind), lengthAnd(body), beside)
+				c := forge(t, s, whole, rest)
+				if b, e := cert.Recover(m, kind, c, beside); b != body || e != api.OK {
+					t.Errorf("kind %d, %d bytes, %d bytes beside: Recover: %x %d, and must be %x", kind, length, size, b, e, body)
+				}
+				for _, other := range []string{"", beside[1:], beside + "x", beside[1:] + "y"} {
+					if b, e := cert.Recover(m, kind, c, other); b != "" || e != api.ErrProof {
+						t.Errorf("kind %d, %d bytes, other %d bytes beside: Recover: %x %d, and must be error %d", kind, length, len(other), b, e, api.ErrProof)
+					}
+				}
+				if b, e := cert.Recover(m, kind%4+1, c, beside); b != "" || e != api.ErrProof {
+					t.Errorf("kind %d, %d bytes, %d bytes beside: Recover as another kind: %x %d, and must be error %d", kind, length, size, b, e, api.ErrProof)
+				}
+			}
+		}
+	}
+}
+
 func TestRecoverOfWhatNobodyCertifies(t *testing.T) {
 	s := first(t)
 	m := modulus(t, s)
-	for _, c := range []struct{ what, text, beside string }{
-		{"a body of 1,001 bytes", lengthAnd(strings.Repeat("x", 1001)), ""},
-		{"a body of 65,535 bytes", lengthAnd(strings.Repeat("x", 65535)), ""},
-		{"a text without a length", "", ""},
-		{"a text with half a length", "\x00", ""},
-		{"less than the length says", "\x00\x05four", ""},
-		{"more than the length says", "\x00\x03four", ""},
-		{"no rest, though the length says it", "\x00\x20what stands in.", ""},
-		{"more than the length says, in the rest", "\x00\x10what stands in..and more", ""},
-		{"less than the length says, in the rest", "\x00\x20what stands in..and more", ""},
-		{"too much beside", lengthAnd("body"), strings.Repeat("x", 65536)},
+	for _, c := range []struct{ what, text string }{
+		{"a body of 1,001 bytes", lengthAnd(strings.Repeat("x", 1001))},
+		{"a body of 65,535 bytes", lengthAnd(strings.Repeat("x", 65535))},
+		{"a text without a length", ""},
+		{"a text with half a length", "\x00"},
+		{"less than the length says", "\x00\x05four"},
+		{"more than the length says", "\x00\x03four"},
+		{"no rest, though the length says it", "\x00\x20what stands in."},
+		{"more than the length says, in the rest", "\x00\x10what stands in..and more"},
+		{"less than the length says, in the rest", "\x00\x20what stands in..and more"},
 	} {
-		whole, rest := plain(40, api.CertData, c.text, c.beside)
-		wantProof(t, c.what, m, forge(t, s, whole, rest), c.beside)
+		for _, beside := range []string{"", strings.Repeat("x", 65536)} {
+			whole, rest := plain(40, api.CertData, c.text, beside)
+			wantProof(t, c.what, m, forge(t, s, whole, rest), beside)
+		}
 	}
 	// The fold is right, and what fills up is not.
 	whole, _ := plain(40, api.CertData, lengthAnd("body"), "")
@@ -839,6 +867,27 @@ func TestChain(t *testing.T) {
 		}
 		if m, e := a.ask(); m != want || e != c.want {
 			t.Errorf("Chain of %+v: %x %d, and must be %x %d", c, m, e, want, c.want)
+		}
+	}
+}
+
+func TestChainWithMuchData(t *testing.T) {
+	h := newHouse(t)
+	a := h.chain(t, "4000", 300, "400012345", 200)
+	written, e := cert.KeyText(api.KeyBody{Owner: a.id, Till: 200, Modulus: modulus(t, h.card)})
+	if e != api.OK {
+		t.Fatalf("KeyText: error %d", e)
+	}
+	for _, size := range []int{65535, 65536, 100000} {
+		a.data = strings.Repeat("x", size)
+		whole, rest := plain(len(modulus(t, h.issuer)), api.CertCard, lengthAnd(written), a.data)
+		a.card = forge(t, h.issuer, whole, rest)
+		if m, e := a.ask(); m != modulus(t, h.card) || e != api.OK {
+			t.Errorf("Chain with %d bytes of data: %x %d, and must be %x", size, m, e, modulus(t, h.card))
+		}
+		a.data += "x"
+		if m, e := a.ask(); m != "" || e != api.ErrProof {
+			t.Errorf("Chain with other %d bytes of data: %x %d, and must be error %d", size+1, m, e, api.ErrProof)
 		}
 	}
 }
