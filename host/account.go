@@ -1,8 +1,6 @@
 package host
 
 import (
-	"slices"
-
 	"pursehouse/api"
 	"pursehouse/card"
 	"pursehouse/mill"
@@ -58,15 +56,19 @@ func (a *account) newest() int {
 	return a.now
 }
 
-// sealed tells by which key, of those from a place on, the Seal of a note is right to a kind of reply.
+// sealed tells by which key, of those from a place on, the Seal of a note is right to a kind of reply. The newest one is asked first: two keys may make one Seal, and if the new one does, the roll is over, whoever else makes it.
 func (a *account) sealed(n api.Note, kind int, from int) (int, bool) {
 	if card.CheckDeal(n.Deal) != api.OK || !within(n.Count, 1, maxCount) {
 		return 0, false
 	}
 	text := card.ReplyText(kind, n.Count, n.Deal, n.Extra)
 	right := func(k api.Master) bool { return mill.Sealed(session(k, n.Count), text, n.Seal) }
-	i := slices.IndexFunc(a.keys[from:a.newest()+1], right)
-	return from + i, i >= 0
+	for at := a.newest(); at >= from; at-- {
+		if right(a.keys[at]) {
+			return at, true
+		}
+	}
+	return 0, false
 }
 
 // session is the session key of a count.

@@ -1186,6 +1186,120 @@ func TestWhatEndsARoll(t *testing.T) {
 	}
 }
 
+// twins are a note, and two master keys whose keys of its card make one and the same Seal of it. (They were found by trying some 2^32 of them.)
+type twins struct {
+	note   api.Note
+	x, y   string
+	joined api.Account
+}
+
+func newTwins(t *testing.T, n api.Note, x string, y string) twins {
+	t.Helper()
+	n = sealed(n, x)
+	if n != sealed(n, y) {
+		t.Fatal("the two Seals are not one")
+	}
+	return twins{n, x, y, api.Account{Id: n.Id, Pin: "1234", Balance: 300, Most: 100}}
+}
+
+func twinAdvice(t *testing.T) twins {
+	t.Helper()
+	n := api.Note{Kind: api.NoteAdvice, Id: "40000001", Count: 3, Reply: api.Approve, Deal: api.Deal{Shop: 1, Trace: 3, Amount: 5, Nonce: nonce}}
+	return newTwins(t, n, "\x89\xcd\xd8\x97\x3f\x7b\x6e\x27pursehou", "\x28\x3d\x34\x83\x01\x90\x50\xd1pursehou")
+}
+
+func twinAsk(t *testing.T) twins {
+	t.Helper()
+	return newTwins(t, bare(api.NoteAsk, 1, 1, 60), "\x1a\x71\x70\x45\x98\xf7\x07\x77pursehou", "\xde\xba\x45\xce\x40\x3f\xd7\x7fpursehou")
+}
+
+// roll is a host with the twins' account, whose card gets keys of these versions, one behind the other; but for the last one it is seen with each. The twins' own versions are 1 and 2.
+func (w twins) roll(t *testing.T, versions ...int) *bench {
+	t.Helper()
+	p := api.HostPlan{
+		Masters: []api.Master{{Version: 1, Key: w.x}, {Version: 2, Key: w.y}, {Version: 3, Key: one}, {Version: 4, Key: two}},
+		Links:   []api.Link{{Shop: w.note.Deal.Shop, Key: seven}},
+	}
+	b := empty(t, p)
+	w.joined.Version = versions[0]
+	b.join(w.joined)
+	for i, version := range versions[1:] {
+		if i > 0 {
+			n := bare(api.NoteAsk, 100+i, 100+i, 0)
+			n.Id, n.Deal.Shop = w.note.Id, w.note.Deal.Shop
+			b.code(sealed(n, p.Masters[versions[i]-1].Key), 1)
+		}
+		b.err("Roll", b.h.Roll(w.note.Id, version), api.OK)
+	}
+	return b
+}
+
+// A roll is over when the Seal of a NoteAdvice is right by the new key, whichever other one it is right by, too.
+func TestAdviceByTwoKeys(t *testing.T) {
+	w := twinAdvice(t)
+	for _, c := range []struct {
+		versions []int
+		over     bool
+	}{
+		{[]int{1, 2}, true}, // by the old one, too
+		{[]int{2, 1}, true},
+		{[]int{3, 1, 2}, true},
+		{[]int{1, 3, 2}, true}, // by one that the account had, too
+		{[]int{2, 3, 1}, true},
+		{[]int{1, 3, 4, 2}, true},
+		{[]int{4, 2, 3, 1}, true},
+		{[]int{1, 2, 3}, false}, // by the old one and one that it had
+		{[]int{2, 1, 3}, false},
+		{[]int{1, 2, 3, 4}, false}, // by two that it had
+		{[]int{3, 1, 4}, false},
+		{[]int{3, 4, 1}, true},
+	} {
+		b := w.roll(t, c.versions...)
+		last := len(c.versions) - 1
+		want := api.State{Balance: 300, Version: c.versions[last-1], Orders: last, Used: last - 1, Rolling: true}
+		if s := b.look(w.note.Id); s != want {
+			t.Fatalf("%v: the account is %+v, it must be %+v", c.versions, s, want)
+		}
+		b.code(w.note, 1)
+		want.Balance, want.Used = 295, last
+		if c.over {
+			want.Version, want.Rolling = c.versions[last], false
+		}
+		if s := b.look(w.note.Id); s != want {
+			t.Errorf("%v: the account is %+v, it must be %+v", c.versions, s, want)
+		}
+	}
+}
+
+// Likewise of a NoteAsk, held or refused; it is answered, and the orders that wait are laid, by the new key.
+func TestAskByTwoKeys(t *testing.T) {
+	tries := api.Order{What: api.OrderTries}
+	wrong := twinAsk(t)
+	wrong.note.Digits = "4321"
+	poor := twinAsk(t)
+	poor.joined.Balance = 59
+	little := twinAsk(t)
+	little.joined.Most = 59
+	for i, w := range []twins{twinAsk(t), wrong, poor, little} {
+		for _, versions := range [][]int{{1, 2}, {2, 1}, {3, 1, 2}} {
+			b := w.roll(t, versions...)
+			b.err("Order", b.h.Order(w.note.Id, []api.Order{tries}), api.OK)
+			want := api.State{Balance: w.joined.Balance, Orders: len(versions) + 1, Used: len(versions) - 1}
+			var answer api.Note
+			if i == 0 {
+				answer.Code, want.Held = 1, 60
+			}
+			want.Version = versions[len(versions)-1]
+			key := []string{w.x, w.y}[want.Version-1]
+			answer.Answer = answerTo(w.note, key, answer.Code)
+			answer.Orders, _ = card.Orders(cardKey(key, w.note.Id), want.Orders, []api.Order{tries})
+			b.says(w.note, answer)
+			b.says(w.note, answer)
+			b.is(want)
+		}
+	}
+}
+
 // An Answer is by the key by which the Seal was right; by the old one, if by none.
 func TestByWhichKeyIsAnswered(t *testing.T) {
 	b := fresh(t)

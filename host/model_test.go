@@ -132,7 +132,7 @@ func (w *telling) look(o *owner) api.State {
 	return api.State{Balance: w.balance(o), Held: w.held(o.Id), Version: o.Version, Orders: o.number, Used: len(o.uses), Rolling: o.new != ""}
 }
 
-// seal is by which of these keys a note is sealed; empty, if by none.
+// seal is by which of these keys, the first that it may be, a note is sealed; empty, if by none.
 func seal(n api.Note, kind int, keys []string) string {
 	if card.CheckDeal(n.Deal) != api.OK || n.Count < 1 || n.Count > 65535 {
 		return ""
@@ -221,7 +221,7 @@ func (w *telling) ask(p *told, n api.Note) (api.Note, bool) {
 	if o == nil {
 		return api.Note{Answer: nine}, true
 	}
-	key := seal(n, api.Online, []string{o.old, o.new})
+	key := seal(n, api.Online, []string{o.new, o.old})
 	used := len(o.users(n.Count)) > 0
 	right := key != "" && !used && n.Deal.Amount <= o.Most && w.balance(o)-w.held(o.Id) >= n.Deal.Amount && (n.Digits == "" || n.Digits == o.Pin)
 	var a api.Note
@@ -256,7 +256,7 @@ func (w *telling) advice(p *told, n api.Note) (api.Note, bool) {
 	if o == nil || n.Reply != api.Approve {
 		return api.Note{}, false
 	}
-	key := seal(n, api.Approve, append([]string{o.old, o.new}, o.had...))
+	key := seal(n, api.Approve, append([]string{o.new, o.old}, o.had...))
 	mine := use{n.Count, p.shop, p.trace}
 	if l := o.users(n.Count); key == "" || len(l) > 0 && !slices.Equal(l, []use{mine}) {
 		return api.Note{}, false
